@@ -1,0 +1,1 @@
+"""Startgaps: how often work can be started on a line of stations."""

@@ -1,0 +1,119 @@
+"""What the tests share: a stricter test case, sample works, and wrong values of every kind."""
+
+import itertools
+import random
+import unittest
+
+from startgaps.errors import GapError, NoWork, TooMany
+from startgaps.lines import Line
+
+WORK = (0, 0, -1, -1, -1, -1, 0)
+LONGEST = (3,) + (-1,) * 58 + (9,)
+
+
+def nested(depth, inside=0):
+    """Return a tuple in a tuple in a tuple, so many deep."""
+    for _ in range(depth):
+        inside = (inside,)
+    return inside
+
+
+def not_integers():
+    """Return values of every kind but the integers."""
+    return [
+        None, True, False, "", "0", "1", "-", "0 0", [], [0], [1], (), (0,), (0, 0), {}, {0: 0}, {1: 1},
+        [[0]], ((0,),), {"0": [0, (0,)]}, nested(20), [nested(19)],
+        Line((0,)), Line((0,), (1,)), GapError(), NoWork("0"), TooMany(0, 1),
+    ]
+
+
+def not_lines():
+    """Return values of every kind but lines."""
+    return not_integers()[:-5] + [
+        0, 1, -1, WORK, [WORK], (WORK,), "Line(1 works)", {0: WORK}, (Line(WORK),), [Line(WORK)], GapError(),
+    ]
+
+
+def with_each_item_replaced(items, others):
+    """Yield the tuple of items with each single one replaced by each of others."""
+    for at in range(len(items)):
+        for other in others:
+            yield items[:at] + (other,) + items[at + 1:]
+
+
+def not_works():
+    """Return values that are no works, of every kind and wrong in every place."""
+    whole = [thing for thing in not_integers() if picture(thing) not in (picture((0,)), picture((0, 0)))]
+    items = not_integers() + [-2, 10, 11, 10 ** 12, -10 ** 12]
+    return whole + [
+        0, 1, -1, [0, 0, -1, 0], (-1,), (-1, 0), (0, -1), (-1, -1), (-1, 0, -1), (0,) * 61, (0,) + (-1,) * 59 + (0,),
+        (0,) * 4000, list(WORK), (WORK,), [WORK], ((0,), (1,)), dict.fromkeys(WORK, 0), (Line(WORK),),
+    ] + list(with_each_item_replaced((0,), items + [-1])) \
+      + list(with_each_item_replaced((4, -1, 7), items)) \
+      + list(with_each_item_replaced(LONGEST, [True, False, None, "0", [0], (0,), {}, -2, 10]))
+
+
+def small_works(longest, stations):
+    """Return all works of up to so many items at so many stations."""
+    items = (-1,) + tuple(range(stations))
+    found = []
+    for length in range(1, longest + 1):
+        for work in itertools.product(items, repeat=length):
+            if work[0] != -1 and work[-1] != -1:
+                found.append(work)
+    return found
+
+
+def random_works(seed, amount, longest=60, stations=10):
+    """Return so many works, the same ones for the same seed."""
+    chance = random.Random(seed)
+    found = []
+    for _ in range(amount):
+        inner = [chance.randint(-1, stations - 1) if chance.random() < 0.5 else -1
+                 for _ in range(chance.randint(1, longest))]
+        inner[0] = chance.randint(0, stations - 1)
+        inner[-1] = chance.randint(0, stations - 1)
+        found.append(tuple(inner))
+    return found
+
+
+def picture(thing):
+    """Return a text in which values of different kinds differ, as True and 1 do not by ==."""
+    name = type(thing).__name__
+    if isinstance(thing, (tuple, list)):
+        return f"{name}[{', '.join(picture(part) for part in thing)}]"
+    if isinstance(thing, dict):
+        return f"{name}[{', '.join(picture(key) + ': ' + picture(thing[key]) for key in thing)}]"
+    if isinstance(thing, Line):
+        return f"{name}[{picture(thing.works)}, {thing.reach}]"
+    if isinstance(thing, Exception):
+        return f"{name}[{thing.args!r}, {vars(thing)!r}]"
+    return f"{name} {thing!r}"
+
+
+class Case(unittest.TestCase):
+    """A test case that compares kinds, too, and holds calls to the general rules."""
+
+    def same(self, got, expected):
+        self.assertEqual(picture(got), picture(expected))
+
+    def gives(self, expected, call, *arguments, **named):
+        """Expect a result, twice, and that no argument is modified."""
+        before = picture((arguments, named))
+        self.same(call(*arguments, **named), expected)
+        self.same(call(*arguments, **named), expected)
+        self.assertEqual(picture((arguments, named)), before)
+
+    def refuses(self, error, call, *arguments, **named):
+        """Expect just this exception, twice, and that no argument is modified; return it."""
+        before = picture((arguments, named))
+        for _ in range(2):
+            with self.assertRaises(GapError, msg=f"for {arguments!r} {named!r}") as caught:
+                call(*arguments, **named)
+            self.assertIs(type(caught.exception), error, f"for {arguments!r} {named!r}")
+        self.assertEqual(picture((arguments, named)), before)
+        return caught.exception
+
+    def refuses_too_many(self, amount, limit, call, *arguments):
+        error = self.refuses(TooMany, call, *arguments)
+        self.same((error.amount, error.limit), (amount, limit))

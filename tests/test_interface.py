@@ -1,0 +1,99 @@
+"""The names, places and arguments of the interface, and the session of [1]."""
+
+import ast
+import doctest
+import importlib
+import inspect
+import pathlib
+import unittest
+
+from startgaps.lines import Line
+from startgaps.plans import clash, is_plan
+from startgaps.works import bars, is_work, most_visits
+from tests.samples import WORK, Case
+
+ROOT = pathlib.Path(__file__).resolve().parent.parent
+FUNCTIONS = {
+    "startgaps.works": {"is_work": ["thing"], "bars": ["one", "other"], "most_visits": ["work"]},
+    "startgaps.plans": {"is_plan": ["line", "thing"], "clash": ["line", "plan"]},
+}
+METHODS = {
+    "startgaps.lines": {
+        "Line": [
+            "__init__", "works", "reach", "__getitem__", "__call__", "__len__", "__add__", "__sub__", "__neg__",
+            "__eq__", "__repr__",
+        ],
+    },
+}
+
+
+def defined_in(module):
+    """Return the statements that define functions and classes at the top of the module's file."""
+    path = ROOT / (module.replace(".", "/") + ".py")
+    found = ast.parse(path.read_text(encoding="utf-8")).body
+    return {part.name: part for part in found if isinstance(part, (ast.FunctionDef, ast.ClassDef))}
+
+
+class Interface(Case):
+
+    def test_functions_stand_in_their_files(self):
+        for module, functions in FUNCTIONS.items():
+            for name, arguments in functions.items():
+                with self.subTest(name):
+                    self.assertIsInstance(defined_in(module)[name], ast.FunctionDef)
+                    function = getattr(importlib.import_module(module), name)
+                    self.assertEqual(list(inspect.signature(function).parameters), arguments)
+
+    def test_classes_and_their_methods_stand_in_their_files(self):
+        for module, classes in METHODS.items():
+            for name, methods in classes.items():
+                body = defined_in(module)[name].body
+                found = [part.name for part in body if isinstance(part, ast.FunctionDef)]
+                for method in methods:
+                    self.assertIn(method, found)
+
+    def test_session(self):
+        self.gives((1, 5, 6), bars, WORK, WORK)
+        self.same(Line(WORK)(0, 0), (1, 5, 6))
+        self.same((Line(WORK).works, Line(WORK).reach), ((WORK,), 6))
+
+    def test_a_piece_of_the_session(self):
+        line = Line(WORK)
+        self.same(tuple(at for at, station in enumerate(WORK) if station == 0), (0, 1, 6))
+        for distance in range(1, 12):
+            self.same(clash(line, ((0, 0), (distance, 0))) is not None, distance in (1, 5, 6))
+
+    def test_starts_as_soon_as_possible_do_not_clash(self):
+        ticks = (0, 2, 4, 11, 13, 15, 22)
+        self.gives(None, clash, Line(WORK), tuple((tick, 0) for tick in ticks))
+
+    def test_starts_at_three_and_four_do_not_clash(self):
+        ticks = (0, 3, 7, 10, 14, 17, 21)
+        self.gives(None, clash, Line(WORK), tuple((tick, 0) for tick in ticks))
+
+    def test_what_tells_returns_bools(self):
+        for told in (is_work(WORK), is_work(None), is_work(()), is_work((-1,)), is_plan(Line(WORK), ()),
+                     is_plan(Line(WORK), None), is_plan(Line(WORK), ((0, 0),)), Line(WORK) == Line(WORK)):
+            self.assertIs(type(told), bool)
+
+    def test_returned_values_may_be_passed_back(self):
+        line = Line(WORK, (0,))
+        self.gives(True, is_work, line[0])
+        self.gives(True, is_work, (-line)[0])
+        self.gives(3, most_visits, (-line).works[0])
+        self.gives(False, is_work, line.works)
+        self.gives(False, is_work, line(0, 0) + (60,))
+        self.gives(False, is_plan, line, clash(line, ((0, 0), (1, 0))))
+
+    def test_the_readme_session(self):
+        text = (ROOT / "README.md").read_text(encoding="utf-8")
+        self.assertIn(">>> ", text)
+        test = doctest.DocTestParser().get_doctest(text, {}, "README.md", "README.md", 0)
+        runner = doctest.DocTestRunner(verbose=False)
+        runner.run(test)
+        self.assertGreater(runner.tries, 0)
+        self.assertEqual(runner.failures, 0)
+
+
+if __name__ == "__main__":
+    unittest.main()
