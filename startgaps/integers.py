@@ -1,4 +1,6 @@
-"""What an integer is: the checks that all other modules share."""
+"""What an integer is, and what a fraction is: the checks and the one way to write that all other modules share."""
+
+from math import gcd
 
 
 def is_int(thing):
@@ -10,3 +12,9 @@ def is_int(thing):
 def is_between(thing, least, most):
     """Tell whether any value is an integer from least to most."""
     return is_int(thing) and least <= thing <= most
+
+
+def fraction(top, bottom):
+    """Return top and bottom, which is above 0, without their common factors."""
+    shared = gcd(top, bottom)
+    return top // shared, bottom // shared

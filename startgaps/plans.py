@@ -23,12 +23,17 @@ def is_plan(line, thing):
 
 def clash(line, plan):
     """Return the first clash of a plan as (tick, station, first, second), None if there is none."""
-    if not is_plan(line, plan):
-        raise NoPlan("an ascending tuple of up to 60 pairs of a tick and a kind is needed")
+    require_plan(line, plan)
     visits = _visits(line, plan)
     # The pieces of a visit ascend, so the first two are the smallest pair.
     clashes = [(*place, pieces[0], pieces[1]) for place, pieces in visits.items() if len(pieces) > 1]
     return min(clashes, default=None)
+
+
+def require_plan(line, thing):
+    """Raise NoLine for what is no Line, and NoPlan for any value that is no plan of the line."""
+    if not is_plan(line, thing):
+        raise NoPlan("an ascending tuple of up to 60 pairs of a tick and a kind is needed")
 
 
 def _is_start(line, thing, least):

@@ -9,6 +9,8 @@ import builtins
 import re
 import warnings
 
+# A doctest that ran before leaves its last result among the builtins, as `_`.
+ALL_BUILTINS = set(dir(builtins)) - {"_"}
 BUILTINS = set(
     "len range enumerate zip min max sum abs sorted reversed int str bool bytes list tuple dict set frozenset isinstance"
     " ord repr any all divmod iter next map super property staticmethod classmethod object float Exception ValueError"
@@ -86,7 +88,7 @@ def lines(name, text, tree):
 def files(name, text, tree):
     if not re.fullmatch(r"[a-z][a-z0-9_]*\.py|__init__\.py", name):
         yield "L14", 1
-    if name[:-3] in dir(builtins) or re.match(r"(law_.*|test|tests|testing|test_.*|site|conftest)\.py", name):
+    if name[:-3] in ALL_BUILTINS or re.match(r"(law_.*|test|tests|testing|test_.*|site|conftest)\.py", name):
         yield "L14", 1
 
 
@@ -142,7 +144,7 @@ def top_level(name, text, tree):
             yield "L3", part.lineno
     if len(bound) != len(set(bound)):
         yield "L15", 1
-    barred = set(bound_classes_and_imports(tree)) | set(dir(builtins)) - {"map", "next"}
+    barred = set(bound_classes_and_imports(tree)) | ALL_BUILTINS - {"map", "next"}
     for part in ast.walk(tree):
         if isinstance(part, ast.arg) and part.arg in barred:
             yield "L15", part.lineno
@@ -218,7 +220,7 @@ def names(name, text, tree):
                 yield "L12", part.lineno
             if word in BARRED_NAMES and not isinstance(part, ast.Attribute):
                 yield "L17", part.lineno
-        if isinstance(part, ast.Name) and part.id in dir(builtins) and part.id not in BUILTINS:
+        if isinstance(part, ast.Name) and part.id in ALL_BUILTINS and part.id not in BUILTINS:
             yield "L8", part.lineno
         if isinstance(part, ast.Name) and part.id == "_" and isinstance(part.ctx, ast.Load):
             yield "L12", part.lineno

@@ -4,11 +4,23 @@ import itertools
 import random
 import unittest
 
-from startgaps.errors import GapError, NoWork, TooMany
+from startgaps.errors import GapError, NoWork, TooFar, TooMany
 from startgaps.lines import Line
 
 WORK = (0, 0, -1, -1, -1, -1, 0)
 LONGEST = (3,) + (-1,) * 58 + (9,)
+HUGE = 10 ** 13 - 1
+
+
+def two_visits(station, distance):
+    """Return the work that comes to a station twice, at this distance, and to no other one."""
+    return (station,) + (-1,) * (distance - 1) + (station,)
+
+
+# As far as the limits let, with as many states as can be.
+FAR_ONE = Line(two_visits(7, 8))
+FAR_TWO = Line(two_visits(4, 5), two_visits(2, 5))
+FAR_THREE = Line(two_visits(0, 5), two_visits(1, 5), two_visits(2, 5))
 
 
 def nested(depth, inside=0):
@@ -77,6 +89,43 @@ def random_works(seed, amount, longest=60, stations=10):
     return found
 
 
+def near_lines(seed, amount, farthest=None):
+    """Return so many lines of one to three works, none beyond the limits of its reach or beyond one that is given."""
+    chance = random.Random(seed)
+    found = []
+    while len(found) < amount:
+        kinds = chance.randint(1, 3)
+        limit = min(farthest or 60, 8 if kinds == 1 else 5)
+        longest = chance.randint(1, limit + 3)
+        works = random_works(chance.randint(0, 10 ** 6), kinds, longest, chance.randint(1, 4))
+        if Line(*works).reach <= limit:
+            found.append(Line(*works))
+    return found
+
+
+def too_far_lines():
+    """Return pairs of a line beyond the limits of its reach and the fields of TooFar."""
+    return [
+        (Line(two_visits(7, 9)), (9, 8)),
+        (Line((7,) * 10), (9, 8)),
+        (Line(two_visits(7, 59)), (59, 8)),
+        (Line(two_visits(4, 6), two_visits(2, 5)), (6, 5)),
+        (Line((3,), two_visits(2, 6)), (6, 5)),
+        (Line((0, 9, 9, 9, 9, 9, 5), (5,)), (6, 5)),
+        (Line((5,), (0, 8, 7, 6, 4, 3, 5)), (6, 5)),
+        (Line(two_visits(0, 5), two_visits(1, 5), two_visits(2, 8)), (8, 5)),
+        (Line(two_visits(0, 59), (1,), (2,)), (59, 5)),
+    ]
+
+
+def random_worths(chance, line):
+    """Return worths for a line, some of them often 0 or equal."""
+    worths = (0,) * len(line.works)
+    while not any(worths):
+        worths = tuple(chance.choice([0, 1, 1, 2, 20, chance.randint(0, 20)]) for _ in line.works)
+    return worths
+
+
 def picture(thing):
     """Return a text in which values of different kinds differ, as True and 1 do not by ==."""
     name = type(thing).__name__
@@ -117,3 +166,7 @@ class Case(unittest.TestCase):
     def refuses_too_many(self, amount, limit, call, *arguments):
         error = self.refuses(TooMany, call, *arguments)
         self.same((error.amount, error.limit), (amount, limit))
+
+    def refuses_too_far(self, fields, call, *arguments):
+        error = self.refuses(TooFar, call, *arguments)
+        self.same((error.bar, error.limit), fields)

@@ -7,8 +7,13 @@ import inspect
 import pathlib
 import unittest
 
+from startgaps.bests import best, prices, shows_best
+from startgaps.errors import GapError
+from startgaps.laps import fits, mean
 from startgaps.lines import Line
+from startgaps.orders import early, soonest, soonest_of
 from startgaps.plans import clash, is_plan
+from startgaps.states import after, choices, state_at, states
 from startgaps.works import bars, is_work, most_visits
 from tests.samples import WORK, Case
 
@@ -16,6 +21,17 @@ ROOT = pathlib.Path(__file__).resolve().parent.parent
 FUNCTIONS = {
     "startgaps.works": {"is_work": ["thing"], "bars": ["one", "other"], "most_visits": ["work"]},
     "startgaps.plans": {"is_plan": ["line", "thing"], "clash": ["line", "plan"]},
+    "startgaps.orders": {
+        "early": ["line", "kinds"], "soonest": ["line", "kinds"], "soonest_of": ["line", "counts"],
+    },
+    "startgaps.states": {
+        "choices": ["line", "state"], "after": ["line", "state", "choice"], "states": ["line"],
+        "state_at": ["line", "plan", "tick"],
+    },
+    "startgaps.laps": {"fits": ["line", "lap"], "mean": ["line", "lap", "worths"]},
+    "startgaps.bests": {
+        "best": ["line", "worths"], "prices": ["line", "worths"], "shows_best": ["line", "worths", "thing"],
+    },
 }
 METHODS = {
     "startgaps.lines": {
@@ -56,6 +72,7 @@ class Interface(Case):
         self.gives((1, 5, 6), bars, WORK, WORK)
         self.same(Line(WORK)(0, 0), (1, 5, 6))
         self.same((Line(WORK).works, Line(WORK).reach), ((WORK,), 6))
+        self.gives(((2, 7), (-1, -1, -1, 0, -1, -1, 0)), best, Line(WORK), (1,))
 
     def test_a_piece_of_the_session(self):
         line = Line(WORK)
@@ -66,14 +83,20 @@ class Interface(Case):
     def test_starts_as_soon_as_possible_do_not_clash(self):
         ticks = (0, 2, 4, 11, 13, 15, 22)
         self.gives(None, clash, Line(WORK), tuple((tick, 0) for tick in ticks))
+        self.gives(tuple((tick, 0) for tick in ticks), early, Line(WORK), (0,) * 7)
+        self.gives(True, fits, Line(WORK), (0, -1, 0, -1, 0, -1, -1, -1, -1, -1, -1))
 
     def test_starts_at_three_and_four_do_not_clash(self):
         ticks = (0, 3, 7, 10, 14, 17, 21)
         self.gives(None, clash, Line(WORK), tuple((tick, 0) for tick in ticks))
+        self.gives(True, fits, Line(WORK), (0, -1, -1, 0, -1, -1, -1))
+        self.gives(True, shows_best, Line(WORK), (1,), ((0, -1, -1, 0, -1, -1, -1), prices(Line(WORK), (1,))))
 
     def test_what_tells_returns_bools(self):
         for told in (is_work(WORK), is_work(None), is_work(()), is_work((-1,)), is_plan(Line(WORK), ()),
-                     is_plan(Line(WORK), None), is_plan(Line(WORK), ((0, 0),)), Line(WORK) == Line(WORK)):
+                     is_plan(Line(WORK), None), is_plan(Line(WORK), ((0, 0),)), Line(WORK) == Line(WORK),
+                     fits(Line(WORK), (0,)), fits(Line(WORK), (-1,)), shows_best(Line((0,)), (1,), ((0,), (0,))),
+                     shows_best(Line((0,)), (1,), ((-1,), (0,))), shows_best(Line((0,)), (1,), None)):
             self.assertIs(type(told), bool)
 
     def test_returned_values_may_be_passed_back(self):
@@ -84,6 +107,39 @@ class Interface(Case):
         self.gives(False, is_work, line.works)
         self.gives(False, is_work, line(0, 0) + (60,))
         self.gives(False, is_plan, line, clash(line, ((0, 0), (1, 0))))
+
+    def test_returned_plans_and_laps_may_be_passed_back(self):
+        line = Line((0, 1, 1), (1, -1, 0))
+        for plan in (early(line, (0, 1, 0)), soonest(line, (0, 1, 0)), soonest_of(line, (2, 1))):
+            self.gives(True, is_plan, line, plan)
+            self.gives(None, clash, line, plan)
+            for tick in range(12):
+                self.assertIn(state_at(line, plan, tick), states(line))
+        most, lap = best(line, (1, 1))
+        self.gives(True, fits, line, lap)
+        self.gives(most, mean, line, lap, (1, 1))
+        self.gives(True, shows_best, line, (1, 1), (lap, prices(line, (1, 1))))
+        self.gives(False, shows_best, line, (1, 1), (most, lap))
+        for state in states(line):
+            self.assertIn(after(line, state, choices(line, state)[-1]), states(line))
+
+    def test_wrong_amounts_of_arguments(self):
+        for module, functions in FUNCTIONS.items():
+            for name, arguments in functions.items():
+                function = getattr(importlib.import_module(module), name)
+                self.assertRaises(TypeError, function)
+                self.assertRaises(TypeError, function, *arguments, None)
+                self.assertRaises(TypeError, function, **dict.fromkeys([*arguments, "more"]))
+
+    def test_where_nothing_is_right_the_first_exception_is_raised(self):
+        first = {"bars": "NoWork", "most_visits": "NoWork"}
+        for module, functions in FUNCTIONS.items():
+            for name, arguments in functions.items():
+                function = getattr(importlib.import_module(module), name)
+                if name != "is_work":
+                    with self.assertRaises(GapError) as caught:
+                        function(*[None] * len(arguments))
+                    self.assertEqual(type(caught.exception).__name__, first.get(name, "NoLine"))
 
     def test_the_readme_session(self):
         text = (ROOT / "README.md").read_text(encoding="utf-8")
