@@ -30,14 +30,15 @@ def shows_best(line, worths, thing):
     return _is_shown(graph, mean(line, lap, worths), asked)
 
 
+def weighted(moves, worths):
+    """Return the graph of such moves, with the choices as labels and their worths as gains."""
+    return [[(choice, worth_of(worths, choice), behind) for choice, behind in open_moves] for open_moves in moves]
+
+
 def _graph(line, worths):
-    """Return the graph of the states, with the choices as labels and their worths as gains."""
     require_worths(line, worths)
     require_near(line)
-    return [
-        [(choice, worth_of(worths, choice), behind) for choice, behind in moves]
-        for moves in numbered_moves(line)
-    ]
+    return weighted(numbered_moves(line), worths)
 
 
 def _are_prices(graph, thing):

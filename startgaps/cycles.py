@@ -7,6 +7,25 @@ it), none with the label of another one. The mean of a cycle is the sum of the g
 from startgaps.integers import fraction
 
 
+def explored(firsts, edges_of):
+    """Return the graph of some nodes and of all to which edges lead from them.
+
+    The nodes are given by names of any kind; edges_of tells, by the name of a node, its edges (label, gain, name of the
+    node behind it).
+    """
+    names = list(firsts)
+    numbers = {name: number for number, name in enumerate(names)}
+    graph = []
+    while len(graph) < len(names):
+        edges = edges_of(names[len(graph)])
+        for _, _, behind in edges:
+            if behind not in numbers:
+                numbers[behind] = len(names)
+                names.append(behind)
+        graph.append([(label, gain, numbers[behind]) for label, gain, behind in edges])
+    return graph
+
+
 def greatest_mean(graph):
     """Return (mean, prices): the greatest mean of all cycles of a graph, and prices that no edge exceeds.
 

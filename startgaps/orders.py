@@ -12,7 +12,7 @@ MOST_PIECES = 8
 
 def early(line, kinds):
     """Return the plan that starts pieces in this order, each one in the first tick in which it clashes with none."""
-    _require_kinds(line, kinds)
+    require_kinds(line, kinds, MOST_KINDS)
     plan = []
     for kind in kinds:
         plan.append((_first_tick(line, plan, kind), kind))
@@ -21,7 +21,7 @@ def early(line, kinds):
 
 def soonest(line, kinds):
     """Return the plan in this order with the earliest last start, of several the smallest."""
-    _require_kinds(line, kinds)
+    require_kinds(line, kinds, MOST_KINDS)
     require_near(line)
     return _soonest_plan(line, kinds, _next_in_order)
 
@@ -33,10 +33,11 @@ def soonest_of(line, counts):
     return _soonest_plan(line, counts, _next_of_any)
 
 
-def _require_kinds(line, thing):
+def require_kinds(line, thing, most):
+    """Raise NoLine for what is no Line, and NoKinds for any value that is no tuple of one to so many of its kinds."""
     require_line(line)
-    if not isinstance(thing, tuple) or not 1 <= len(thing) <= MOST_KINDS:
-        raise NoKinds("a tuple of 1 to 12 kinds is needed")
+    if not isinstance(thing, tuple) or not 1 <= len(thing) <= most:
+        raise NoKinds(f"a tuple of 1 to {most} kinds is needed")
     if not all([is_kind(line, kind) for kind in thing]):
         raise NoKinds("each item must be a kind of the line")
 

@@ -19,19 +19,20 @@ def is_work(thing):
 
 def bars(one, other):
     """Return the distances at which a piece of other clashes with one of one before it."""
-    _require_work(one)
-    _require_work(other)
+    require_work(one)
+    require_work(other)
     # From the length of one on, its piece is gone before the other one comes.
     return tuple([distance for distance in range(1, len(one)) if _clashes_behind(one, other, distance)])
 
 
 def most_visits(work):
     """Return the greatest number of ticks that a piece is at one station."""
-    _require_work(work)
+    require_work(work)
     return max([work.count(station) for station in range(STATIONS)])
 
 
-def _require_work(thing):
+def require_work(thing):
+    """Raise NoWork for any value that is no work."""
     if not is_work(thing):
         raise NoWork("a tuple of 1 to 60 stations and -1 is needed, with stations at both ends")
 

@@ -131,3 +131,134 @@ def open_starts(line, lap):
                 there |= taken(line.works[kind], number * len(lap) + start)
     return [(tick, kind) for tick, item in enumerate(lap) if item == -1
             for kind, work in enumerate(line.works) if not taken(work, tick) & there]
+
+
+def most_starts(work, ticks):
+    """Return the most pieces of a work that can be started in so many ticks without a clash, by trying all ways."""
+    ways = {(): 0}
+    for _ in range(ticks):
+        longer = {}
+        for way, amount in ways.items():
+            # A way is told by how long ago its pieces were started that are still there.
+            for start in (False, True):
+                agos = tuple(ago + 1 for ago in way if ago + 1 < len(work)) + ((0,) if start else ())
+                places = [place for ago in agos for place in taken(work, -ago)]
+                if len(places) == len(set(places)):
+                    longer[agos] = max(longer.get(agos, 0), amount + start)
+        ways = longer
+    return max(ways.values())
+
+
+def greedy_distances(work, amount):
+    """Start so many pieces, each as soon as it can be behind the one before; return the distances."""
+    there = taken(work, 0)
+    distances = []
+    tick = 0
+    for _ in range(amount):
+        distance = 1
+        while taken(work, tick + distance) & there:
+            distance += 1
+        tick += distance
+        there |= taken(work, tick)
+        distances.append(distance)
+    return distances
+
+
+def shortest_repetition(items):
+    """Return (before, again) for items that repeat: as few before as possible, then as few again.
+
+    Only what is repeated three times or more in the items is taken for a repetition.
+    """
+    for before in range(len(items)):
+        for length in range(1, (len(items) - before) // 3 + 1):
+            if items[before:-length] == items[before + length:]:
+                return tuple(items[:before]), tuple(items[before:before + length])
+    raise AssertionError("no repetition is seen")
+
+
+def passes(lap, kinds):
+    """Return how many whole passes through the kinds the starts of a lap are, from any place on; 0 if they are none."""
+    starts = [kind for kind in lap if kind != -1]
+    amount = len(starts) // len(kinds)
+    for place in range(len(kinds)):
+        if starts and starts == list(kinds[place:] + kinds[:place]) * amount:
+            return amount
+    return 0
+
+
+def shortest_turns(line, kinds, longest):
+    """Try all laps of up to so many ticks: return the least (ticks for a pass, ticks, lap), None if there is none."""
+    found = [(fractions.Fraction(ticks, passes(lap, kinds)), ticks, lap)
+             for ticks in range(1, longest + 1)
+             for lap in itertools.product(range(-1, len(line.works)), repeat=ticks)
+             if passes(lap, kinds) and lap_fits(line, lap)]
+    return min(found, default=None)
+
+
+def is_constant_by_pieces(items, distance):
+    """Start pieces of these items at a distance, as long as the first one is under way."""
+    behind = range(distance, len(items), distance)
+    return not any(taken(items, start) & taken(items, 0) for start in behind)
+
+
+def with_waits(work, waits):
+    """Return the items of a work with so many -1 behind each but the last one."""
+    return tuple(item for station, wait in zip(work, (*waits, 0)) for item in (station,) + (-1,) * wait)
+
+
+def waits_of_sum(places, total):
+    """Yield all waits for so many places with this sum, the smallest ones first."""
+    if places == 0:
+        if total == 0:
+            yield ()
+        return
+    for wait in range(min(total, 11) + 1):
+        for others in waits_of_sum(places - 1, total - wait):
+            yield (wait, *others)
+
+
+def least_waits(work, distance, most):
+    """Try all waits by their sums up to a greatest one: return the first ones with which a distance is constant."""
+    for total in range(most + 1):
+        for waits in waits_of_sum(len(work) - 1, total):
+            if is_constant_by_pieces(with_waits(work, waits), distance):
+                return waits
+    return None
+
+
+def lap_rate(lap):
+    """Return the rate of a lap as two fractions of the library."""
+    return fractions.Fraction(lap.count(0), len(lap)), fractions.Fraction(lap.count(1), len(lap))
+
+
+def short_rates(line, longest):
+    """Try all laps of up to so many ticks: return a dict from each rate to the smallest of the shortest laps."""
+    found = {}
+    for ticks in range(1, longest + 1):
+        for lap in itertools.product((-1, 0, 1), repeat=ticks):
+            if lap_rate(lap) not in found and lap_fits(line, lap):
+                found[lap_rate(lap)] = lap
+    return found
+
+
+def is_under_line(corners, pair):
+    """Tell whether a pair is at most a point on the line through the corners, by trying them and what lies between."""
+    if any(pair[0] <= x and pair[1] <= y for x, y in corners):
+        return True
+    for (left, high), (right, low) in zip(corners, corners[1:]):
+        if left <= pair[0] <= right and pair[1] <= high + (low - high) * (pair[0] - left) / (right - left):
+            return True
+    return False
+
+
+def corners_of(points):
+    """Return those of the points that are needed so that each one is at most a point on the line through them."""
+    first = max(points, key=lambda point: (point[1], point[0]))
+    last = max(points)
+    needed = [first]
+    while needed[-1] != last:
+        # The next corner is where the line falls least steeply, as far off as can be.
+        x, y = needed[-1]
+        needed.append(max((point for point in points if point[0] > x),
+                          key=lambda point: ((point[1] - y) / (point[0] - x), point[0])))
+    return needed

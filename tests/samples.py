@@ -1,5 +1,6 @@
 """What the tests share: a stricter test case, sample works, and wrong values of every kind."""
 
+import fractions
 import itertools
 import random
 import unittest
@@ -89,6 +90,11 @@ def random_works(seed, amount, longest=60, stations=10):
     return found
 
 
+def near_works(seed, amount):
+    """Return so many works, none beyond the limit of its greatest bar with itself."""
+    return [work for work in random_works(seed, 20 * amount, 14, 4) if Line(work).reach <= 8][:amount]
+
+
 def near_lines(seed, amount, farthest=None):
     """Return so many lines of one to three works, none beyond the limits of its reach or beyond one that is given."""
     chance = random.Random(seed)
@@ -118,12 +124,33 @@ def too_far_lines():
     ]
 
 
+def too_far_works():
+    """Return pairs of a work beyond the limit of its greatest bar with itself and the fields of TooFar."""
+    return [(line.works[0], fields) for line, fields in too_far_lines() if len(line.works) == 1] + [
+        (two_visits(7, 10), (10, 8)), ((3, 3) + (-1,) * 7 + (3,), (9, 8)), (two_visits(2, 9) + (1, 0, 5), (9, 8)),
+    ]
+
+
 def random_worths(chance, line):
     """Return worths for a line, some of them often 0 or equal."""
     worths = (0,) * len(line.works)
     while not any(worths):
         worths = tuple(chance.choice([0, 1, 1, 2, 20, chance.randint(0, 20)]) for _ in line.works)
     return worths
+
+
+def work_with_bars(distances):
+    """Return a work whose bars with itself are these, one station for each: the visits take no tick twice."""
+    items = {}
+    for station, distance in enumerate(distances):
+        at = next(at for at in itertools.count() if at not in items and at + distance not in items)
+        items[at] = items[at + distance] = station
+    return tuple(items.get(at, -1) for at in range(max(items, default=0) + 1)) if items else (0,)
+
+
+def value(pair):
+    """Return a fraction of the program as one of the library."""
+    return fractions.Fraction(*pair)
 
 
 def picture(thing):

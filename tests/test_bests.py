@@ -18,7 +18,7 @@ from tests.oracles import (
 )
 from tests.samples import (
     FAR_ONE, FAR_THREE, FAR_TWO, HUGE, WORK, Case, near_lines, nested, not_integers, not_lines, picture,
-    random_worths, too_far_lines, two_visits, with_each_item_replaced,
+    random_worths, too_far_lines, two_visits, value, with_each_item_replaced, work_with_bars,
 )
 from tests.test_laps import not_laps, not_worths, plan_of
 
@@ -26,20 +26,6 @@ ONE = Line(WORK)
 TWO = Line((0, 0), (1, -1, 1))
 FREE = Line((0,), (1,), (2,))
 LAP = (-1, -1, -1, 0, -1, -1, 0)
-
-
-def work_with_bars(distances):
-    """Return a work whose bars with itself are these, one station for each: the visits take no tick twice."""
-    items = {}
-    for station, distance in enumerate(distances):
-        at = next(at for at in itertools.count() if at not in items and at + distance not in items)
-        items[at] = items[at + distance] = station
-    return tuple(items.get(at, -1) for at in range(max(items, default=0) + 1)) if items else (0,)
-
-
-def value(pair):
-    """Return a fraction of the program as one of the library."""
-    return fractions.Fraction(*pair)
 
 
 def priced(line, worths):

@@ -13,10 +13,15 @@ from startgaps.laps import fits, mean
 from startgaps.lines import Line
 from startgaps.orders import early, soonest, soonest_of
 from startgaps.plans import clash, is_plan
+from startgaps.rates import is_under, rates, shows_rates
+from startgaps.singles import bounds, constants, gap, greedy, is_greedy_best
 from startgaps.states import after, choices, state_at, states
+from startgaps.turns import in_turn
+from startgaps.waits import shows_stretch, stretch, stretched, trade
 from startgaps.works import bars, is_work, most_visits
 from tests.samples import WORK, Case
 
+TWO = Line((0, 1, 1), (1, -1, 0))
 ROOT = pathlib.Path(__file__).resolve().parent.parent
 FUNCTIONS = {
     "startgaps.works": {"is_work": ["thing"], "bars": ["one", "other"], "most_visits": ["work"]},
@@ -32,7 +37,19 @@ FUNCTIONS = {
     "startgaps.bests": {
         "best": ["line", "worths"], "prices": ["line", "worths"], "shows_best": ["line", "worths", "thing"],
     },
+    "startgaps.singles": {
+        "gap": ["work"], "constants": ["work"], "greedy": ["work"], "bounds": ["work"], "is_greedy_best": ["work"],
+    },
+    "startgaps.turns": {"in_turn": ["line", "kinds"]},
+    "startgaps.waits": {
+        "stretched": ["work", "waits"], "stretch": ["work", "distance"],
+        "shows_stretch": ["work", "distance", "thing"], "trade": ["work"],
+    },
+    "startgaps.rates": {"rates": ["line"], "is_under": ["line", "pair"], "shows_rates": ["line", "thing"]},
 }
+# All other functions take a line first.
+WITH_A_WORK = ("bars", "most_visits", "gap", "constants", "greedy", "bounds", "is_greedy_best", "stretched", "stretch",
+               "shows_stretch", "trade")
 METHODS = {
     "startgaps.lines": {
         "Line": [
@@ -73,6 +90,8 @@ class Interface(Case):
         self.same(Line(WORK)(0, 0), (1, 5, 6))
         self.same((Line(WORK).works, Line(WORK).reach), ((WORK,), 6))
         self.gives(((2, 7), (-1, -1, -1, 0, -1, -1, 0)), best, Line(WORK), (1,))
+        self.same((gap(WORK), greedy(WORK)), ((7, 2), ((), (2, 2, 7))))
+        self.gives((1, 0, 0, 0, 0, 0), stretch, WORK, 3)
 
     def test_a_piece_of_the_session(self):
         line = Line(WORK)
@@ -85,6 +104,13 @@ class Interface(Case):
         self.gives(None, clash, Line(WORK), tuple((tick, 0) for tick in ticks))
         self.gives(tuple((tick, 0) for tick in ticks), early, Line(WORK), (0,) * 7)
         self.gives(True, fits, Line(WORK), (0, -1, 0, -1, 0, -1, -1, -1, -1, -1, -1))
+        self.same(sum(greedy(WORK)[1]), 11)
+
+    def test_with_one_wait(self):
+        work = stretched(WORK, (1, 0, 0, 0, 0, 0))
+        self.gives(None, clash, Line(work), tuple((3 * at, 0) for at in range(60)))
+        self.gives(True, fits, Line(work), (0, -1, -1))
+        self.gives(False, fits, Line(WORK), (0, -1, -1))
 
     def test_starts_at_three_and_four_do_not_clash(self):
         ticks = (0, 3, 7, 10, 14, 17, 21)
@@ -96,7 +122,11 @@ class Interface(Case):
         for told in (is_work(WORK), is_work(None), is_work(()), is_work((-1,)), is_plan(Line(WORK), ()),
                      is_plan(Line(WORK), None), is_plan(Line(WORK), ((0, 0),)), Line(WORK) == Line(WORK),
                      fits(Line(WORK), (0,)), fits(Line(WORK), (-1,)), shows_best(Line((0,)), (1,), ((0,), (0,))),
-                     shows_best(Line((0,)), (1,), ((-1,), (0,))), shows_best(Line((0,)), (1,), None)):
+                     shows_best(Line((0,)), (1,), ((-1,), (0,))), shows_best(Line((0,)), (1,), None),
+                     is_greedy_best(WORK), is_greedy_best((0,)), shows_stretch(WORK, 3, (1, 0, 0, 0, 0, 0)),
+                     shows_stretch(WORK, 3, (0,) * 6), shows_stretch(WORK, 3, ()), is_under(TWO, ((0, 1), (0, 1))),
+                     is_under(TWO, ((5, 1), (0, 1))), shows_rates(TWO, rates(TWO)), shows_rates(TWO, ()),
+                     shows_rates(TWO, None)):
             self.assertIs(type(told), bool)
 
     def test_returned_values_may_be_passed_back(self):
@@ -123,6 +153,27 @@ class Interface(Case):
         for state in states(line):
             self.assertIn(after(line, state, choices(line, state)[-1]), states(line))
 
+    def test_what_is_returned_for_one_work_may_be_passed_back(self):
+        distance = trade(WORK)[0][0]
+        self.gives(True, is_work, stretched(WORK, stretch(WORK, distance)))
+        self.gives(True, shows_stretch, WORK, distance, stretch(WORK, distance))
+        self.assertIn(distance, constants(stretched(WORK, stretch(WORK, distance))))
+        self.gives(False, shows_stretch, WORK, distance, trade(WORK))
+        self.gives(False, shows_stretch, WORK, distance, greedy(WORK))
+        self.gives(True, is_under, Line(WORK, (0,)) - 0 + Line((1,)), (bounds((0,))[1], (0, 1)))
+        self.gives(False, shows_stretch, WORK, distance, bounds(WORK))
+
+    def test_what_is_returned_for_a_line_may_be_passed_back(self):
+        for rate, lap in rates(TWO):
+            self.gives(True, fits, TWO, lap)
+            self.gives(True, is_under, TWO, rate)
+        _, lap = in_turn(TWO, (0, 1, 1))
+        self.gives(True, fits, TWO, lap)
+        self.gives(True, is_under, TWO, (mean(TWO, lap, (1, 0)), mean(TWO, lap, (0, 1))))
+        self.gives(True, shows_rates, TWO, rates(TWO))
+        self.gives(False, shows_rates, TWO, in_turn(TWO, (0, 1, 1)))
+        self.gives(False, shows_rates, TWO, rates(TWO) + rates(TWO))
+
     def test_wrong_amounts_of_arguments(self):
         for module, functions in FUNCTIONS.items():
             for name, arguments in functions.items():
@@ -132,14 +183,13 @@ class Interface(Case):
                 self.assertRaises(TypeError, function, **dict.fromkeys([*arguments, "more"]))
 
     def test_where_nothing_is_right_the_first_exception_is_raised(self):
-        first = {"bars": "NoWork", "most_visits": "NoWork"}
         for module, functions in FUNCTIONS.items():
             for name, arguments in functions.items():
                 function = getattr(importlib.import_module(module), name)
                 if name != "is_work":
                     with self.assertRaises(GapError) as caught:
                         function(*[None] * len(arguments))
-                    self.assertEqual(type(caught.exception).__name__, first.get(name, "NoLine"))
+                    self.assertEqual(type(caught.exception).__name__, "NoWork" if name in WITH_A_WORK else "NoLine")
 
     def test_the_readme_session(self):
         text = (ROOT / "README.md").read_text(encoding="utf-8")
