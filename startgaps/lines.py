@@ -12,7 +12,8 @@ def is_kind(line, thing):
     return is_between(thing, 0, len(line) - 1)
 
 
-def _require_kind(line, thing):
+def require_kind(line, thing):
+    """Raise NoKind for any value that is no kind of a line."""
     if not is_kind(line, thing):
         raise NoKind("the number of a work of the line is needed")
 
@@ -47,7 +48,7 @@ class Line:
         return len(self._works)
 
     def __getitem__(self, at):
-        _require_kind(self, at)
+        require_kind(self, at)
         return self._works[at]
 
     def __iter__(self):
@@ -55,8 +56,8 @@ class Line:
 
     def __call__(self, one, other):
         """Return the bars of two kinds."""
-        _require_kind(self, one)
-        _require_kind(self, other)
+        require_kind(self, one)
+        require_kind(self, other)
         return self._bars[one][other]
 
     def __add__(self, other):
@@ -70,7 +71,7 @@ class Line:
         raise NoLine("a line can be added to a line only")
 
     def __sub__(self, other):
-        _require_kind(self, other)
+        require_kind(self, other)
         if len(self._works) == 1:
             raise OnlyOne("the only work of a line cannot be taken away")
         works = self._works[:other] + self._works[other + 1:]

@@ -27,7 +27,7 @@ def greedy(work):
     line = Line(work)
     require_near(line)
     distances, first = _until_repeated(line(0, 0))
-    return _shortest(tuple(distances[:first]), tuple(distances[first:]))
+    return _with_fewest_before(tuple(distances[:first]), tuple(distances[first:]))
 
 
 def bounds(work):
@@ -77,16 +77,13 @@ def _next_distance(barred, agos):
     return distance
 
 
-def _shortest(before, again):
-    """Return the same distances with as few before as possible, and then as few again."""
+def _with_fewest_before(before, again):
+    """Return the same distances with as few before as possible.
+
+    There are no fewer again: those that come for ever tell which starts still bar something, so they come again no
+    sooner than these do.
+    """
     while before and before[-1] == again[-1]:
         again = (again[-1],) + again[:-1]
         before = before[:-1]
-    return before, _once(again)
-
-
-def _once(again):
-    """Return the shortest distances whose repetition these are."""
-    whole = len(again)
-    shorter = [length for length in range(1, whole) if again[:length] * (whole // length) == again]
-    return again[:min(shorter, default=whole)]
+    return before, again

@@ -50,10 +50,13 @@ def numbered_moves(line):
     return [[(choice, numbers[behind]) for choice, behind in moves[state]] for state in ordered]
 
 
-def require_near(line):
-    """Raise NoLine for what is no Line, and TooFar for a line with too many states to go through."""
+def require_near(line, of_one=FARTHEST_OF_ONE, of_several=FARTHEST_OF_SEVERAL):
+    """Raise NoLine for what is no Line, and TooFar for a line with a reach beyond the limit of one work or of several.
+
+    What is farther has too many states to go through.
+    """
     require_line(line)
-    limit = FARTHEST_OF_ONE if len(line) == 1 else FARTHEST_OF_SEVERAL
+    limit = of_one if len(line) == 1 else of_several
     if line.reach > limit:
         raise TooFar(line.reach, limit)
 

@@ -69,9 +69,10 @@ def _least_waits(work, distance):
     """Return the waits of stretch.
 
     Waits for the first items come from the queue by their sum, then by size; so the first ones for all items are those
-    that are looked for. What can follow depends only on the places that are taken of those that are come to later.
+    that are looked for. What can follow depends on the places (station, how many ticks ago, up to whole distances) that
+    are taken, of stations that are come to again.
     """
-    queue = [(0, (), _taken_first(work))]
+    queue = [(0, (), ((work[0], 0),))]
     seen = {}
     while queue:
         total, waits, taken = heappop(queue)
@@ -84,24 +85,18 @@ def _least_waits(work, distance):
     return None
 
 
-def _taken_first(work):
-    """Return the taken places once the first item is come to, as pairs (station, how many ticks ago)."""
-    return ((work[0], 0),)
-
-
 def _next_taken(work, distance, at, taken):
     """Return the pairs (wait before an item, places that are taken once it is come to) that let none be taken twice."""
     station = work[at]
-    # A wait before nothing can come behind it as well, which is smaller; one of the distance changes no place.
-    most = 0 if station == NOWHERE else distance - 1
     found = []
-    for wait in range(most + 1):
+    # A wait as long as the distance changes no place.
+    for wait in range(distance):
         moved = [(other, (ago + wait + 1) % distance) for other, ago in taken]
         if (station, 0) not in moved:
-            found.append((wait, _ascending_places(work[at + 1:], [*moved, (station, 0)])))
+            found.append((wait, _needed_places(work[at + 1:], [*moved, (station, 0)])))
     return found
 
 
-def _ascending_places(coming, places):
+def _needed_places(coming, places):
     """Return the places of stations that are still to come, in one order whatever way led to them."""
     return tuple(sorted([(station, ago) for station, ago in places if station in coming and station != NOWHERE]))

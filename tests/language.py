@@ -225,7 +225,9 @@ def names(name, text, tree):
         if isinstance(part, ast.Name) and part.id == "_" and isinstance(part.ctx, ast.Load):
             yield "L12", part.lineno
         if isinstance(part, ast.Attribute) and re.match(r"__", part.attr):
-            if not (part.attr == "__init__" and ast.unparse(part.value) == "super()"):
+            # Of these names only `Base.__init__`, `super().__init__` and `self.__class__.__name__` are read.
+            shown = ast.unparse(part)
+            if not (part.attr == "__init__" or re.search(r"\w\.__class__(\.__name__)?$", shown)):
                 yield "L8", part.lineno
 
 

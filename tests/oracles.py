@@ -125,7 +125,8 @@ def soonest_by_distances(line, orders):
 def open_starts(line, lap):
     """Return all (tick, kind) that could be added, once, to a lap that is repeated endlessly to both sides."""
     there = set()
-    for number in range(-70 // len(lap) - 2, 70 // len(lap) + 3):
+    laps = max(len(work) for work in line.works) // len(lap) + 2
+    for number in range(-laps, laps + 1):
         for start, kind in enumerate(lap):
             if kind != -1:
                 there |= taken(line.works[kind], number * len(lap) + start)
@@ -262,3 +263,12 @@ def corners_of(points):
         needed.append(max((point for point in points if point[0] > x),
                           key=lambda point: ((point[1] - y) / (point[0] - x), point[0])))
     return needed
+
+
+def sparsest_short_lap(line, longest):
+    """Try all laps of up to so many ticks: return the least (starts per tick, ticks, lap) of the full ones, or None."""
+    found = [(fractions.Fraction(ticks - lap.count(-1), ticks), ticks, lap)
+             for ticks in range(1, longest + 1)
+             for lap in itertools.product(range(-1, len(line.works)), repeat=ticks)
+             if lap_fits(line, lap) and not open_starts(line, lap)]
+    return min(found, default=None)

@@ -6,6 +6,7 @@ import random
 import unittest
 
 from startgaps.errors import GapError, NoWork, TooFar, TooMany
+from startgaps.feeders import CarefulPaced, Feeder
 from startgaps.lines import Line
 
 WORK = (0, 0, -1, -1, -1, -1, 0)
@@ -35,7 +36,7 @@ def not_integers():
     """Return values of every kind but the integers."""
     return [
         None, True, False, "", "0", "1", "-", "0 0", [], [0], [1], (), (0,), (0, 0), {}, {0: 0}, {1: 1},
-        [[0]], ((0,),), {"0": [0, (0,)]}, nested(20), [nested(19)],
+        [[0]], ((0,),), {"0": [0, (0,)]}, nested(20), [nested(19)], Feeder(Line((0,))), CarefulPaced(Line((0,)), 1),
         Line((0,)), Line((0,), (1,)), GapError(), NoWork("0"), TooMany(0, 1),
     ]
 
@@ -162,6 +163,8 @@ def picture(thing):
         return f"{name}[{', '.join(picture(key) + ': ' + picture(thing[key]) for key in thing)}]"
     if isinstance(thing, Line):
         return f"{name}[{picture(thing.works)}, {thing.reach}]"
+    if isinstance(thing, Feeder):
+        return f"{name}[{picture((thing.line, thing.now, thing.plan, thing.clashes, thing.changes))}]"
     if isinstance(thing, Exception):
         return f"{name}[{thing.args!r}, {vars(thing)!r}]"
     return f"{name} {thing!r}"

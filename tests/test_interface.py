@@ -9,6 +9,8 @@ import unittest
 
 from startgaps.bests import best, prices, shows_best
 from startgaps.errors import GapError
+from startgaps.feeders import Feeder
+from startgaps.fulls import is_full
 from startgaps.laps import fits, mean
 from startgaps.lines import Line
 from startgaps.orders import early, soonest, soonest_of
@@ -46,16 +48,34 @@ FUNCTIONS = {
         "shows_stretch": ["work", "distance", "thing"], "trade": ["work"],
     },
     "startgaps.rates": {"rates": ["line"], "is_under": ["line", "pair"], "shows_rates": ["line", "thing"]},
+    "startgaps.fulls": {"open_ticks": ["line", "lap"], "is_full": ["line", "lap"], "sparsest": ["line"]},
+    "startgaps.likes": {"work_with": ["distances"], "alike": ["one", "other"]},
+    "startgaps.texts": {
+        "work_text": ["work"], "lap_text": ["line", "lap"], "line_text": ["line"], "plan_text": ["line", "plan"],
+        "read_work": ["text"], "read_lap": ["text"], "read_line": ["text"], "read_plan": ["text"],
+    },
 }
-# All other functions take a line first.
-WITH_A_WORK = ("bars", "most_visits", "gap", "constants", "greedy", "bounds", "is_greedy_best", "stretched", "stretch",
-               "shows_stretch", "trade")
+# What is raised where nothing is right, by the function; all others take a line first.
+FIRST = dict.fromkeys(("bars", "most_visits", "gap", "constants", "greedy", "bounds", "is_greedy_best", "stretched",
+                       "stretch", "shows_stretch", "trade", "work_text"), "NoWork")
+FIRST.update(dict.fromkeys(("read_work", "read_lap", "read_line", "read_plan"), "NoText"), work_with="NoBars")
+# The arguments of the methods; a property has none.
+FEEDER = {
+    "__init__": ["line"], "line": None, "now": None, "plan": None, "clashes": None, "changes": None, "start": ["kind"],
+    "wait": ["ticks"], "feed": ["kind"], "run": ["lap"], "shut": ["station", "ticks"], "undo": [], "trial": ["task"],
+    "__call__": ["kind"], "__getitem__": ["station"], "__len__": [], "__contains__": ["thing"], "__eq__": ["other"],
+    "__repr__": [],
+}
 METHODS = {
     "startgaps.lines": {
-        "Line": [
-            "__init__", "works", "reach", "__getitem__", "__call__", "__len__", "__add__", "__sub__", "__neg__",
-            "__eq__", "__repr__",
-        ],
+        "Line": {
+            "__init__": ["works"], "works": None, "reach": None, "__getitem__": ["at"], "__call__": ["one", "other"],
+            "__len__": [], "__add__": ["other"], "__sub__": ["other"], "__neg__": [], "__eq__": ["other"], "__repr__": [],
+        },
+    },
+    "startgaps.feeders": {
+        "Feeder": FEEDER, "Careful": FEEDER, "Paced": {**FEEDER, "__init__": ["line", "pace"], "pace": None},
+        "CarefulPaced": {**FEEDER, "__init__": ["line", "pace"], "pace": None},
     },
 }
 
@@ -82,8 +102,13 @@ class Interface(Case):
             for name, methods in classes.items():
                 body = defined_in(module)[name].body
                 found = [part.name for part in body if isinstance(part, ast.FunctionDef)]
-                for method in methods:
+                made = getattr(importlib.import_module(module), name)
+                for method, arguments in methods.items():
                     self.assertIn(method, found)
+                    defined = vars(made)[method]
+                    self.assertEqual(isinstance(defined, property), arguments is None)
+                    if arguments is not None:
+                        self.assertEqual(list(inspect.signature(defined).parameters), ["self", *arguments])
 
     def test_session(self):
         self.gives((1, 5, 6), bars, WORK, WORK)
@@ -126,7 +151,8 @@ class Interface(Case):
                      is_greedy_best(WORK), is_greedy_best((0,)), shows_stretch(WORK, 3, (1, 0, 0, 0, 0, 0)),
                      shows_stretch(WORK, 3, (0,) * 6), shows_stretch(WORK, 3, ()), is_under(TWO, ((0, 1), (0, 1))),
                      is_under(TWO, ((5, 1), (0, 1))), shows_rates(TWO, rates(TWO)), shows_rates(TWO, ()),
-                     shows_rates(TWO, None)):
+                     shows_rates(TWO, None), is_full(TWO, (-1,)), is_full(Line((0,)), (0,)), 0 in Feeder(TWO),
+                     Feeder(TWO) == Feeder(TWO), Feeder(TWO) == TWO):
             self.assertIs(type(told), bool)
 
     def test_returned_values_may_be_passed_back(self):
@@ -189,7 +215,7 @@ class Interface(Case):
                 if name != "is_work":
                     with self.assertRaises(GapError) as caught:
                         function(*[None] * len(arguments))
-                    self.assertEqual(type(caught.exception).__name__, "NoWork" if name in WITH_A_WORK else "NoLine")
+                    self.assertEqual(type(caught.exception).__name__, FIRST.get(name, "NoLine"))
 
     def test_the_readme_session(self):
         text = (ROOT / "README.md").read_text(encoding="utf-8")
