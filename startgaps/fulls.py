@@ -68,7 +68,7 @@ def _graph(line):
                 edges.append((choice, 1 if choice == NOTHING else 0, place))
         return edges
 
-    return explored([(state, ()) for state in range(len(moves))], edges_of)
+    return explored([(number, ()) for number in range(len(moves))], edges_of)
 
 
 def _still_unclosed(line, choice, unclosed):

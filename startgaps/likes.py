@@ -15,12 +15,13 @@ def work_with(distances):
         raise NoBars("an ascending tuple of up to eight integers from 1 to 20 is needed")
     stations = {}
     for station, distance in enumerate(distances):
-        # Each distance has a station of its own, which a piece comes to twice and no more.
-        first = _first_free(stations, distance)
+        # Each distance has a station of its own, which a piece comes to twice and no more. The distances ascend, and
+        # so do the second visits: each comes behind all others.
+        first = _first_free(stations)
         stations[first] = station
         stations[first + distance] = station
-    if not stations:
-        stations[0] = 0
+    # Without distances, a single visit will do.
+    stations.setdefault(0, 0)
     return tuple([stations.get(tick, NOWHERE) for tick in range(max(list(stations)) + 1)])
 
 
@@ -41,10 +42,10 @@ def _is_bars(thing):
     return all([near < far for near, far in zip(thing, thing[1:])])
 
 
-def _first_free(stations, distance):
-    """Return the first tick such that neither it nor the one so far behind it has a station."""
+def _first_free(stations):
+    """Return the first tick that has no station."""
     tick = 0
-    while tick in stations or tick + distance in stations:
+    while tick in stations:
         tick += 1
     return tick
 

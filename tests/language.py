@@ -62,7 +62,8 @@ def breaches(name, text):
         except SyntaxError as problem:
             return [("L27", problem.lineno)]
     found = set()
-    for check in (lines, files, functions, imports, top_level, statements, expressions, names, classes, sets):
+    for check in (lines, files, functions, imports, library, top_level, statements, last_steps, expressions, names, classes,
+                  above, sets):
         found.update(check(name, text, tree))
     return sorted(found)
 
@@ -127,6 +128,15 @@ def imports(name, text, tree):
                 yield "L2", part.lineno
 
 
+def library(name, text, tree):
+    asked = {alias.name for part in tree.body if isinstance(part, ast.ImportFrom) and part.module in LIBRARY
+             for alias in part.names}
+    called = {id(part.func) for part in ast.walk(tree) if isinstance(part, ast.Call) and not part.keywords}
+    for part in ast.walk(tree):
+        if isinstance(part, ast.Name) and part.id in asked and id(part) not in called:
+            yield "L2", part.lineno
+
+
 def top_level(name, text, tree):
     bound = []
     for at, part in enumerate(tree.body):
@@ -179,6 +189,19 @@ def statements(name, text, tree):
                 yield "L19", part.lineno
 
 
+def last_steps(name, text, tree):
+    """Look at the rows of each `finally`: assignments of plain values, and tests for None."""
+    for part in ast.walk(tree):
+        for row in part.finalbody if isinstance(part, ast.Try) else []:
+            for inner in ast.walk(row):
+                if isinstance(inner, ast.stmt) and not isinstance(inner, (ast.Assign, ast.If, ast.Pass)):
+                    yield "L6", inner.lineno
+                if isinstance(inner, (ast.Call, ast.Subscript, ast.BinOp, ast.UnaryOp, ast.Lambda, ast.JoinedStr)):
+                    yield "L6", inner.lineno
+                if isinstance(inner, ast.Compare) and not isinstance(inner.ops[0], (ast.Is, ast.IsNot)):
+                    yield "L6", inner.lineno
+
+
 def expressions(name, text, tree):
     for part in ast.walk(tree):
         if isinstance(part, ast.Constant) and isinstance(part.value, (float, complex)):
@@ -196,11 +219,23 @@ def expressions(name, text, tree):
             yield from calls(part)
 
 
+def is_plain(part):
+    """Tell whether a value is a name, an attribute off a name, or a literal of such."""
+    if isinstance(part, (ast.Tuple, ast.List)):
+        return all(is_plain(inner) for inner in part.elts)
+    if isinstance(part, ast.Attribute):
+        return isinstance(part.value, ast.Name)
+    return isinstance(part, (ast.Name, ast.Constant))
+
+
 def is_single(part):
     return isinstance(part, ast.Constant) and part.value in (None, True, False)
 
 
 def calls(part):
+    starred = [given for given in part.args if isinstance(given, ast.Starred)]
+    if starred and not all(is_plain(given.value if given in starred else given) for given in part.args):
+        yield "L7", part.lineno
     if isinstance(part.func, ast.Name) and part.func.id in COLLECTING:
         # Own classes have __eq__ and operators here, so a list is taken and not a generator expression.
         if any(isinstance(given, ast.GeneratorExp) for given in part.args):
@@ -266,6 +301,19 @@ def classes(name, text, tree):
             unchanging = method.name in DOUBLE - {"__init__", "__call__", "__setitem__", "__enter__", "__exit__"}
             if (unchanging or method.name in properties) and changes_attributes(method):
                 yield "L5", method.lineno
+
+
+def above(name, text, tree):
+    """Look at each `super()`: it calls a plain method, or `__init__` in an `__init__`."""
+    calls_of_methods = {id(part.func) for part in ast.walk(tree) if isinstance(part, ast.Call)}
+    good = set()
+    for part in ast.walk(tree):
+        if isinstance(part, ast.Attribute) and ast.unparse(part.value) == "super()" and id(part) in calls_of_methods:
+            if not part.attr.startswith("__") or part.attr == "__init__":
+                good.add(id(part.value.func))
+    for part in ast.walk(tree):
+        if isinstance(part, ast.Name) and part.id == "super" and id(part) not in good:
+            yield "L5", part.lineno
 
 
 def changes_attributes(method):
