@@ -63,7 +63,8 @@ class Run:
         return self.__class__.__name__, self._line, self._now, self._plan, shut_places(self._shuttings)
 
     def _shown(self):
-        return f"{self.__class__.__name__}(tick {self._now}, {len(self._plan)} pieces)"
+        name = self.__class__.__name__
+        return f"{name}(tick {self._now}, {len(self._plan)} pieces)"
 
     def _start(self, kind):
         require_kind(self._line, kind)
